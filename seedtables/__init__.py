@@ -1,0 +1,1 @@
+"""Seedtables: families of functions drawn by a seed."""
