@@ -2,9 +2,8 @@
 
 from itertools import combinations
 
-from seedtables.common import check_lot, check_marks, check_number, check_table, first_wrong_row
+from seedtables.common import check_lot, check_many, check_marks, check_number, check_table, first_wrong_row
 from seedtables.common import is_filled_tuple, power
-from seedtables.errors import TooMany
 
 MOST_PATTERNS = 1024
 
@@ -20,8 +19,7 @@ def pattern_counts(marks, table, lot):
     check_table(marks, table)
     check_lot(table, lot)
     many = power(marks, len(lot))
-    if many > MOST_PATTERNS:
-        raise TooMany(many)
+    check_many(many, MOST_PATTERNS)
     counts = coming_counts(table, lot)
     return tuple([counts.get(pattern_at(marks, len(lot), index), 0) for index in range(many)])
 

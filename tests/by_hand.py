@@ -3,7 +3,7 @@
 from collections import Counter
 from fractions import Fraction
 from itertools import combinations, product
-from math import comb
+from math import comb, factorial
 
 
 def pair(number):
@@ -85,3 +85,38 @@ def likenesses(table):
 def weight(marks, keys, j, i):
     """K_j(i)."""
     return sum((-1) ** h * (marks - 1) ** (j - h) * comb(i, h) * comb(keys - i, j - h) for h in range(j + 1))
+
+
+def all_counts(marks, many):
+    return sorted(one for one in product(range(many + 1), repeat=marks) if sum(one) == many)
+
+
+def all_powers(marks, size):
+    return sorted(one for one in product(range(size + 1), repeat=marks - 1) if sum(one) <= size)
+
+
+def counts_in(marks, row):
+    return tuple(len([one for one in row if one == mark]) for mark in range(marks))
+
+
+def lots_product(counts, powers):
+    """The product over the marks but the last one of the number of lots of j_m of n_m things."""
+    ways = 1
+    for mark, power in enumerate(powers):
+        ways *= comb(counts[mark], power)
+    return ways
+
+
+def falling_mean(counts, shares, powers):
+    return sum(number(share) * lots_product(one, powers) for one, share in zip(counts, shares, strict=True))
+
+
+def even_mean(marks, many, powers):
+    ways = factorial(many)
+    for power in (*powers, many - sum(powers)):
+        ways //= factorial(power)
+    return Fraction(ways, marks ** sum(powers))
+
+
+def mean(shares, question):
+    return sum(number(share) * number(one) for share, one in zip(shares, question, strict=True))

@@ -1,6 +1,8 @@
 """Tables for the tests, written down or made by plain rules of numbers, so that a run is always the same."""
 
+from fractions import Fraction
 from itertools import product
+from math import comb
 
 BIT = ((0,), (1,))
 LINES = ((0, 0), (1, 1), (2, 2))
@@ -83,3 +85,33 @@ MIXED = tuple(
 
 # As many rows as there may be, and as many keys: more patterns than rows for all marks.
 GREAT = tuple((marks, mixed_table(marks, 8, 128, marks)) for marks in (2, 3, 4, 5))
+
+# All numbers of marks and of keys with no more than 60 counts.
+FEW_COUNTS = tuple(
+    (marks, many) for marks in (2, 3, 4, 5) for many in range(1, 9) if comb(many + marks - 1, many) <= 60
+)
+MANY_COUNTS = tuple(
+    (marks, many) for marks in (2, 3, 4, 5) for many in range(1, 9) if comb(many + marks - 1, many) > 60
+)
+
+
+def pair(number):
+    return (number.numerator, number.denominator)
+
+
+def questions(length):
+    """Questions with so many elements: of all signs, of 0 and 1 alone, of whole numbers, with all alike."""
+    return (
+        tuple(pair(Fraction((at * at * 37 + at * 11) % 101 - 50, (at * 29 + 7) % 13 + 1)) for at in range(length)),
+        tuple((int((at * at + 3 * at) % 5 < 2), 1) for at in range(length)),
+        tuple((-((at * 7 + 2) % 4), 1) for at in range(length)),
+        ((0, 1),) * (length - 1) + ((1, 1),),
+        ((-2, 7),) * length,
+    )
+
+
+def shares_by_rule(length, start):
+    """Shares of so many counts, some of them 0."""
+    parts = [((at + start) * (at + 3) * 7 + start) % 11 * ((at + start) % 3) for at in range(length)]
+    parts[start % length] += 1
+    return tuple(pair(Fraction(part, sum(parts))) for part in parts)

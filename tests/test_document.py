@@ -2,11 +2,23 @@
 
 import unittest
 
+from seedtables.changes import exchanged, led, product, rows_beside, with_keys
+from seedtables.counts import (
+    all_counts, all_powers, are_even_shares, bounding_polynomial, counted, even_mean, even_shares, falling_mean,
+    greatest_mean, least_mean, mean_of, reaching_shares, table_of,
+)
+from seedtables.errors import TooMany
 from seedtables.leans import lean, likenesses, transform, unevenness
+from seedtables.made import behind, free_strength, polynomial_table, straight_table, sums_table, tie_of
+from seedtables.single import at_least, bounding_single, greatest_single, least_single, reaching_single
 from seedtables.tables import is_even_on, is_table, pattern_counts, strength, uneven_lot
 
 bit, lines = ((0,), (1,)), ((0, 0), (1, 1), (2, 2))
-tripled = ((0, 0, 0), (0, 1, 1), (1, 0, 1), (1, 1, 0))
+tripled, odd = ((0, 0, 0), (0, 1, 1), (1, 0, 1), (1, 1, 0)), ((0, 0, 1), (0, 1, 0), (1, 0, 0), (1, 1, 1))
+nil, one, half, quarter = (0, 1), (1, 1), (1, 2), (1, 4)
+alone = (nil, nil, nil, one)
+pairs = ((0, 0), (0, 1), (1, 1), (1, 0))
+square = ((0, 0), (0, 1), (1, 0), (1, 1))
 
 
 class Tables(unittest.TestCase):
@@ -52,6 +64,103 @@ class Leans(unittest.TestCase):
     def test_transform(self):
         self.assertEqual(transform(2, tripled), ((1, 1), (0, 1), (0, 1), (1, 1)))
         self.assertEqual(transform(3, lines), ((1, 1), (0, 1), (2, 1)))
+
+
+class Changes(unittest.TestCase):
+    def test_with_keys(self):
+        self.assertEqual(with_keys(2, tripled, (2, 0)), ((0, 0), (1, 0), (1, 1), (0, 1)))
+
+    def test_exchanged(self):
+        self.assertEqual(exchanged(2, tripled, 2, (1, 0)), ((0, 0, 1), (0, 1, 0), (1, 0, 0), (1, 1, 1)))
+
+    def test_rows_beside(self):
+        self.assertEqual(strength(2, rows_beside(2, tripled, odd)), 3)
+
+    def test_product(self):
+        self.assertEqual(product(2, bit, bit), ((0, 0), (0, 1), (1, 0), (1, 1)))
+        self.assertEqual(strength(2, product(2, tripled, bit)), 2)
+
+    def test_led(self):
+        self.assertEqual(led(4, ((0,), (1,), (2,), (3,)), 2, (0, 1, 1, 0)), ((0,), (1,), (1,), (0,)))
+
+
+class Counts(unittest.TestCase):
+    def test_counts_and_powers(self):
+        self.assertEqual(all_counts(2, 3), ((0, 3), (1, 2), (2, 1), (3, 0)))
+        self.assertEqual(all_powers(3, 4, 1), ((0, 0), (0, 1), (1, 0)))
+
+    def test_even_ones(self):
+        self.assertEqual(even_mean(2, 3, (2,)), (3, 4))
+        self.assertEqual(even_shares(2, 2), ((1, 4), (1, 2), (1, 4)))
+
+    def test_counted(self):
+        self.assertEqual(counted(2, tripled, (0, 1, 2)), ((0, 1), (3, 4), (0, 1), (1, 4)))
+
+    def test_falling_mean(self):
+        self.assertEqual(falling_mean(2, 3, (quarter, nil, (3, 4), nil), (1,)), (3, 2))
+
+    def test_greatest_and_least_means(self):
+        self.assertEqual(greatest_mean(2, 3, 2, alone), (1, 4))
+        self.assertEqual(least_mean(2, 3, 2, alone), (0, 1))
+        self.assertEqual(reaching_shares(2, 3, 2, alone), ((0, 1), (3, 4), (0, 1), (1, 4)))
+        self.assertEqual(len(bounding_polynomial(2, 3, 2, alone)), 3)
+        self.assertEqual(greatest_mean(2, 3, 1, alone), (1, 2))
+        self.assertEqual(greatest_mean(2, 3, 2, (one, nil, nil, one)), (1, 4))
+        self.assertEqual(least_mean(2, 3, 2, (one, nil, nil, one)), (1, 4))
+        self.assertEqual(greatest_mean(2, 3, 3, alone), (1, 8))
+
+    def test_are_even_shares(self):
+        self.assertIs(are_even_shares(2, 3, 2, (quarter, nil, (3, 4), nil)), True)
+        self.assertIs(are_even_shares(2, 3, 3, (quarter, nil, (3, 4), nil)), False)
+
+    def test_mean_of(self):
+        self.assertEqual(mean_of(2, 3, even_shares(2, 3), alone), (1, 8))
+
+    def test_table_of(self):
+        self.assertEqual(table_of(2, 3, (nil, (3, 4), nil, quarter)), tripled)
+
+
+class Single(unittest.TestCase):
+    def test_at_least(self):
+        self.assertEqual(at_least(3, 2), ((0, 1), (0, 1), (1, 1), (1, 1)))
+
+    def test_greatest_and_least(self):
+        self.assertEqual(greatest_single(2, 3, 2, alone), (1, 4))
+        self.assertEqual(greatest_single(10, 10, 1, at_least(10, 5)), (1, 5))
+        self.assertEqual(bounding_single(10, 10, 1, at_least(10, 5)), ((0, 1), (1, 5)))
+        self.assertEqual(greatest_single(10, 10, 2, at_least(10, 10)), (1, 100))
+        self.assertEqual(least_single(2, 4, 2, at_least(4, 1)), (5, 6))
+
+    def test_reaching_single_by_hand(self):
+        # With the least mean of at_least(4, 1), 1 / 6 at 0, 1 / 2 at 2, 1 / 3 at 3 or likewise 1, 2 and 4.
+        others = tuple((-above, below) for above, below in at_least(4, 1))
+        self.assertEqual(reaching_single(2, 4, 2, others)[0], (1, 6))
+
+
+class Made(unittest.TestCase):
+    def test_polynomial_tables(self):
+        self.assertEqual(polynomial_table(2, 2, 2), pairs)
+        self.assertEqual(polynomial_table(3, 1, 2), ((0, 0), (1, 1), (2, 2)))
+        self.assertEqual(len(polynomial_table(5, 3, 4)), 125)
+        with self.assertRaises(TooMany) as caught:
+            polynomial_table(5, 4, 5)
+        self.assertEqual(caught.exception.given, 625)
+
+    def test_straight_table(self):
+        self.assertEqual(straight_table(2, ((0,), (1,))), ((0, 0), (1, 1), (0, 1), (1, 0)))
+
+    def test_ties(self):
+        self.assertEqual(free_strength(2, square), 3)
+        self.assertEqual(free_strength(3, ((1,), (1,))), 1)
+        self.assertEqual(tie_of(2, square, (0, 1, 2, 3)), (1, 1, 1, 1))
+        self.assertIsNone(tie_of(2, square, (0, 1, 2)))
+        self.assertIn(tie_of(3, ((1,), (1,)), (0, 1)), ((1, 2), (2, 1)))
+
+    def test_sums_table(self):
+        self.assertEqual(sums_table(2, ((0, 0), (0, 1)), ((0, 1),)), ((0, 1, 0, 1), (0, 1, 1, 0)))
+
+    def test_behind(self):
+        self.assertEqual(behind(2, ((0, 0), (0, 1)), 2, ((0, 1), (0, 0))), ((0, 0), (0, 0), (0, 1), (0, 0)))
 
 
 if __name__ == "__main__":

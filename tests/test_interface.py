@@ -5,7 +5,10 @@ import importlib
 import inspect
 import unittest
 
-from tests.samples import GREAT, MIXED, STRONG, TRIPLED
+from tests.samples import BIT, GREAT, MIXED, ODD, STRONG, TRIPLED, mixed_table, questions, units
+
+SHARES = ((1, 4), (0, 1), (3, 4), (0, 1))
+QUESTION = ((1, 2), (-1, 3), (0, 1), (2, 1))
 
 # For each function its file, its parameters, and arguments that are right.
 INTERFACE = (
@@ -18,11 +21,48 @@ INTERFACE = (
     ("leans", "unevenness", ("marks", "table", "lot"), (2, TRIPLED, (0, 1, 2))),
     ("leans", "likenesses", ("marks", "table"), (2, TRIPLED)),
     ("leans", "transform", ("marks", "table"), (2, TRIPLED)),
+    ("changes", "with_keys", ("marks", "table", "keys"), (2, TRIPLED, (2, 0))),
+    ("changes", "exchanged", ("marks", "table", "key", "order"), (2, TRIPLED, 2, (1, 0))),
+    ("changes", "rows_beside", ("marks", "table", "other"), (2, TRIPLED, ODD)),
+    ("changes", "product", ("marks", "table", "other"), (2, TRIPLED, BIT)),
+    ("changes", "led", ("marks", "table", "fewer", "images"), (4, mixed_table(4, 3, 9, 1), 2, (0, 1, 1, 0))),
+    ("counts", "all_counts", ("marks", "many"), (4, 5)),
+    ("counts", "all_powers", ("marks", "many", "size"), (3, 4, 1)),
+    ("counts", "even_mean", ("marks", "many", "powers"), (3, 4, (1, 2))),
+    ("counts", "even_shares", ("marks", "many"), (3, 8)),
+    ("counts", "counted", ("marks", "table", "lot"), (2, TRIPLED, (0, 1, 2))),
+    ("counts", "falling_mean", ("marks", "many", "shares", "powers"), (2, 3, SHARES, (1,))),
+    ("counts", "are_even_shares", ("marks", "many", "size", "shares"), (2, 3, 2, SHARES)),
+    ("counts", "mean_of", ("marks", "many", "shares", "question"), (2, 3, SHARES, QUESTION)),
+    ("counts", "greatest_mean", ("marks", "many", "size", "question"), (4, 5, 3, questions(56)[0])),
+    ("counts", "least_mean", ("marks", "many", "size", "question"), (4, 5, 3, questions(56)[0])),
+    ("counts", "reaching_shares", ("marks", "many", "size", "question"), (4, 5, 3, questions(56)[1])),
+    ("counts", "bounding_polynomial", ("marks", "many", "size", "question"), (4, 5, 3, questions(56)[1])),
+    ("counts", "table_of", ("marks", "many", "shares"), (2, 3, SHARES)),
+    ("single", "at_least", ("many", "least"), (12, 5)),
+    ("single", "greatest_single", ("marks", "many", "size", "question"), (60, 12, 6, questions(13)[0])),
+    ("single", "least_single", ("marks", "many", "size", "question"), (60, 12, 6, questions(13)[0])),
+    ("single", "reaching_single", ("marks", "many", "size", "question"), (60, 12, 6, questions(13)[1])),
+    ("single", "bounding_single", ("marks", "many", "size", "question"), (60, 12, 6, questions(13)[1])),
+    ("made", "polynomial_table", ("prime", "size", "keys"), (5, 3, 4)),
+    ("made", "straight_table", ("prime", "vectors"), (2, units(6))),
+    ("made", "free_strength", ("prime", "vectors"), (5, units(6))),
+    ("made", "tie_of", ("prime", "vectors", "lot"), (3, ((1,), (1,), (2,)), (0, 1))),
+    ("made", "sums_table", ("marks", "table", "other"), (3, mixed_table(3, 2, 9, 1), mixed_table(3, 4, 7, 1))),
+    ("made", "behind", ("marks", "table", "fewer", "other"), (2, TRIPLED, 5, mixed_table(5, 2, 7, 1))),
 )
+
+# The functions of a table and no more than a lot or a size beside it.
+OF_TABLES = tuple(one for one in INTERFACE if one[0] in ("tables", "leans"))
 
 
 def found(file, name):
     return getattr(importlib.import_module("seedtables." + file), name)
+
+
+def again(value):
+    """An equal value, in which each tuple is another one."""
+    return tuple([again(part) for part in value]) if type(value) is tuple else value
 
 
 def is_plain(value):
@@ -52,13 +92,20 @@ class Interface(unittest.TestCase):
     def test_equal_calls_return_equal_results(self):
         for file, name, _, arguments in INTERFACE:
             function = found(file, name)
+            first = function(*arguments)
+            self.assertTrue(is_plain(first), (name, first))
+            self.assertEqual(first, function(*copy.deepcopy(arguments)))
+            self.assertEqual(first, function(*again(arguments)))
+
+    def test_equal_calls_with_tables_return_equal_results(self):
+        for file, name, _, arguments in OF_TABLES:
+            function = found(file, name)
             for marks, table in [(marks, table) for marks, table, _ in STRONG] + list(MIXED):
                 keys = len(table[0])
                 last = {"lot": tuple(range(min(keys, 4))), "size": keys}
                 more = [last[word] for word in inspect.signature(function).parameters if word in last]
-                again = tuple(tuple(list(row)) for row in table)
                 first = function(marks, table, *more)
-                self.assertEqual(first, function(marks, again, *copy.deepcopy(more)))
+                self.assertEqual(first, function(marks, again(table), *copy.deepcopy(more)))
                 self.assertEqual(first, function(marks, table, *more))
                 self.assertTrue(is_plain(first), (name, first))
 

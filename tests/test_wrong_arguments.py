@@ -8,6 +8,7 @@ from seedtables.leans import lean, likenesses, transform, unevenness
 from seedtables.tables import is_even_on, is_table, pattern_counts, strength, uneven_lot
 from tests.by_hand import all_lots
 from tests.samples import GREAT, MIXED, TRIPLED, mixed_table
+from tests.wrong import Told, any_values, right_tables, wrong_tables
 
 WITH_LOT = (pattern_counts, is_even_on, lean, unevenness)
 ALONE = (strength, likenesses, transform)
@@ -15,47 +16,11 @@ WITH_SIZE = (uneven_lot,)
 WITH_TABLE = WITH_LOT + WITH_SIZE + ALONE
 
 
-class Something:
-    """No value of Python's own."""
-
-
-def nested(depth, make):
-    value = make(())
-    for _ in range(depth - 1):
-        value = make((value,))
-    return value
-
-
-def any_values():
-    """Values of any kind; those that are right somewhere are among them."""
-    return [
-        None, True, False, Ellipsis, "", "2", "table", "(0,)", b"", b"\x00", [], [2], [0, 1], [[0]], [(0,)], {},
-        {0: 1}, {"a": [1]}, set(), {0}, frozenset((0,)), (), (0,), (1,), (0, 1), ((),), ((0,),), ([0],), ({},),
-        ((0,), [0]), (None,), ("0",), (True,), (False,), -1, 0, 1, 2, 3, 4, 5, 6, 7, 8, 9, 128, 1024,
-        10 ** 30, 10 ** 30 + 1, -10 ** 30, 10 ** 399, -10 ** 399, object(), Something(), Something, int, len,
-        range(3), iter(()), nested(14, tuple), nested(14, list), lambda: None,
-    ]
-
-
 def last_arguments(function):
     """What stands behind marks and table in a right call."""
     if function in WITH_LOT:
         return ((0,),)
     return (1,) if function in WITH_SIZE else ()
-
-
-class Told(unittest.TestCase):
-    def told(self, error, attribute, value, function, *arguments):
-        """The call raises just this error, with this very value."""
-        with self.assertRaises(error) as caught:
-            function(*arguments)
-        self.assertIs(type(caught.exception), error)
-        kept = getattr(caught.exception, attribute)
-        self.assertIs(type(kept), type(value), (function, arguments))
-        if attribute == "given" and error is not TooMany:
-            self.assertIs(kept, value, (function, arguments))
-        else:
-            self.assertEqual(kept, value, (function, arguments))
 
 
 class Marks(Told):
@@ -77,41 +42,6 @@ class Marks(Told):
         for value in any_values():
             self.told(InvalidMarks, "given", 1, is_table, 1, value)
             self.told(InvalidMarks, "given", True, is_table, True, value)
-
-
-def right_tables(marks):
-    row = tuple(place % marks for place in range(8))
-    return [
-        ((0,),), ((marks - 1,),), ((0,) * 8,), ((marks - 1,) * 8,), (row,) * 128, (row[:1],) * 128,
-        tuple((place % marks,) for place in range(128)), mixed_table(marks, 8, 128, 5),
-        ((0, marks - 1), (0, 0), (0, marks - 1)),
-    ]
-
-
-def wrong_rows(marks):
-    """What is no row of two marks, wherever it stands."""
-    return [
-        None, True, 0, "01", b"01", [], [0, 1], {0: 1, 1: 0}, (), (0,), (0, 1, 0), (0,) * 8, (0,) * 9,
-        (0, marks), (marks, 0), (0, -1), (-1, 0), (0, True), (False, 0), (True, True), (0, None), (0, "1"),
-        (0, [1]), ((0,), 1), ((0, 1),), ([0, 1],), (0, 10 ** 30), (-10 ** 30, 0), range(2), object(),
-    ]
-
-
-def wrong_tables(marks):
-    """Pairs of a value that is no table of these marks and the index that is told."""
-    good = (0, marks - 1)
-    told = [(value, None) for value in any_values() if not isinstance(value, tuple) or value == ()]
-    told += [([good], None), ([list(good)], None), ({good: good}, None), (iter((good,)), None)]
-    first = [row for row in wrong_rows(marks) if row not in ((0,), (0, 1, 0), (0,) * 8)]
-    told += [((row,), 0) for row in first]
-    told += [((row, good, good), 0) for row in first]
-    told += [(((),), 0), (((), ()), 0), (((0,) * 9, (0,) * 9), 0), (((0,) * 7 + (marks,),), 0), ((0, 1), 0)]
-    for row in wrong_rows(marks):
-        told += [((good, row), 1), ((good, good, row, row), 2), ((good,) * 127 + (row,), 127)]
-        told += [((good,) * 5 + (row,) + (good,) * 125, 5), ((good,) * 128 + (row,), 128)]
-        told += [((good,) * 130 + (row,), 128), ((good, good, row, good, (0,)), 2)]
-    told += [((good,) * 129, 128), ((good,) * 131, 128), (((0,),) * 129, 128), (((0,) * 8,) * 131, 128)]
-    return told
 
 
 class Tables(Told):
