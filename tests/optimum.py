@@ -37,3 +37,17 @@ class Optimum(unittest.TestCase):
             self.assertGreaterEqual(height, number(one))
         even_mean = sum(number(factor) * even for factor, (_, even) in zip(polynomial, lines))
         self.assertEqual(even_mean, number(greatest))
+
+    def least_and_greatest(self, functions, lines, marks, many, size, question):
+        """The least and the greatest mean, all that is told of the question being right, both ways round."""
+        greatest_of, least_of, reaching, bounding = functions
+        greatest = []
+        for asked in (question, tuple((-above, below) for above, below in question)):
+            passed = (marks, many, size, asked)
+            greatest.append(greatest_of(*passed))
+            self.is_optimum(lines, asked, greatest[-1], reaching(*passed), bounding(*passed))
+        above, below = greatest[1]
+        least = least_of(marks, many, size, question)
+        self.assertEqual(least, (-above, below))
+        self.assertLessEqual(number(least), number(greatest[0]))
+        return least, greatest[0]

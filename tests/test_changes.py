@@ -50,6 +50,10 @@ class Exchanged(unittest.TestCase):
                         expected[key] = order[before[key]]
                         self.assertEqual(row, tuple(expected))
 
+    def test_of_one_row(self):
+        self.assertEqual(exchanged(2, ((0, 1),), 0, (1, 0)), ((1, 1),))
+        self.assertEqual(exchanged(5, ((4,),), 0, (1, 2, 3, 4, 0)), ((0,),))
+
     def test_changes_no_lean(self):
         for marks, table in SMALL:
             lots = by_hand.all_lots(len(table[0]))

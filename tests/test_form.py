@@ -1,6 +1,7 @@
 """The form of the package's files, as far as a program can see it at little cost."""
 
 import ast
+import builtins
 import os
 import re
 import unittest
@@ -63,6 +64,18 @@ class Form(unittest.TestCase):
                         self.assertTrue(re.match(r"seedtables\.[a-z]", node.module), (name, node.lineno))
                     else:
                         self.assertLessEqual(words, LIBRARY[node.module], (name, node.lineno))
+
+    def test_each_import_is_used_and_keeps_its_meaning(self):
+        for name, tree in trees():
+            nodes = list(ast.walk(tree))
+            imports = {alias.name for node in nodes if isinstance(node, ast.ImportFrom) for alias in node.names}
+            used = {node.id for node in nodes if isinstance(node, ast.Name) and isinstance(node.ctx, ast.Load)}
+            bound = {node.id for node in nodes if isinstance(node, ast.Name) and isinstance(node.ctx, ast.Store)}
+            bound |= {node.arg for node in nodes if isinstance(node, ast.arg)}
+            bound |= {node.name for node in nodes if isinstance(node, (ast.FunctionDef, ast.ClassDef))}
+            self.assertLessEqual(imports, used, name)
+            self.assertEqual(imports & bound, set(), name)
+            self.assertEqual(bound & set(dir(builtins)), set(), name)
 
     def test_nothing_that_is_barred(self):
         for name, tree in trees():

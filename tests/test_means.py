@@ -14,6 +14,8 @@ from tests.by_hand import number, pair
 from tests.optimum import Optimum
 from tests.samples import FEW_COUNTS, MIXED, STRONG, questions
 
+FUNCTIONS = (greatest_mean, least_mean, reaching_shares, bounding_polynomial)
+
 
 @cache
 def lines(marks, many):
@@ -25,31 +27,15 @@ def lines(marks, many):
     }
 
 
-def negated(question):
-    return tuple((-above, below) for above, below in question)
-
-
 def by_counts(marks, many, worth):
     """The question with this worth of each counts."""
     return tuple(pair(worth(counts)) for counts in by_hand.all_counts(marks, many))
 
 
 class Means(Optimum):
-    def check(self, marks, many, size, question):
-        """All that is told of a question is right; the greatest mean."""
-        chosen = [lines(marks, many)[powers] for powers in by_hand.all_powers(marks, size)]
-        passed = (marks, many, size, question)
-        greatest = greatest_mean(*passed)
-        self.is_optimum(chosen, question, greatest, reaching_shares(*passed), bounding_polynomial(*passed))
-        return greatest
-
     def check_both(self, marks, many, size, question):
-        greatest = self.check(marks, many, size, question)
-        above, below = self.check(marks, many, size, negated(question))
-        least = least_mean(marks, many, size, question)
-        self.assertEqual(least, (-above, below))
-        self.assertLessEqual(number(least), number(greatest))
-        return least, greatest
+        chosen = [lines(marks, many)[powers] for powers in by_hand.all_powers(marks, size)]
+        return self.least_and_greatest(FUNCTIONS, chosen, marks, many, size, question)
 
     def test_reached_and_bounded_for_all_marks_keys_and_sizes(self):
         for marks, many in FEW_COUNTS:

@@ -14,6 +14,7 @@ from tests.optimum import Optimum
 from tests.samples import FEW_COUNTS, MIXED, STRONG, questions
 
 MARKS = (2, 3, 5, 6, 17, 59, 60)
+FUNCTIONS = (greatest_single, least_single, reaching_single, bounding_single)
 
 
 @cache
@@ -22,10 +23,6 @@ def lines(marks, many, size):
     return [
         ([comb(keys, j) for keys in range(many + 1)], Fraction(comb(many, j), marks ** j)) for j in range(size + 1)
     ]
-
-
-def negated(question):
-    return tuple((-above, below) for above, below in question)
 
 
 def free_shares(marks, many):
@@ -52,21 +49,8 @@ class AtLeast(unittest.TestCase):
 
 
 class Single(Optimum):
-    def check(self, marks, many, size, question):
-        """All that is told of a question is right; the greatest mean."""
-        passed = (marks, many, size, question)
-        greatest = greatest_single(*passed)
-        chosen = lines(marks, many, size)
-        self.is_optimum(chosen, question, greatest, reaching_single(*passed), bounding_single(*passed))
-        return greatest
-
     def check_both(self, marks, many, size, question):
-        greatest = self.check(marks, many, size, question)
-        above, below = self.check(marks, many, size, negated(question))
-        least = least_single(marks, many, size, question)
-        self.assertEqual(least, (-above, below))
-        self.assertLessEqual(number(least), number(greatest))
-        return least, greatest
+        return self.least_and_greatest(FUNCTIONS, lines(marks, many, size), marks, many, size, question)
 
     def test_reached_and_bounded_for_all_keys_and_sizes(self):
         for marks in MARKS:
