@@ -39,6 +39,11 @@ def is_fraction(value):
     return is_whole(above) and is_whole(below) and below > 0 and gcd(above, below) == 1
 
 
+def is_part(value):
+    """Whether a value is a fraction from 0 on."""
+    return is_fraction(value) and value[0] >= 0
+
+
 def is_lot(keys, value):
     """Whether a value is an ascending tuple of indexes below keys."""
     if not isinstance(value, tuple):
@@ -127,7 +132,7 @@ def power(base, times):
     return result
 
 
-def fraction(above, below):
+def fraction_of(above, below):
     """The fraction above / below; below is above 0."""
     divisor = gcd(above, below)
     return (above // divisor, below // divisor)
@@ -139,6 +144,17 @@ def over_one_number(fractions):
     for _, below in fractions:
         number = lcm(number, below)
     return [above * (number // below) for above, below in fractions], number
+
+
+def have_sum_1(fractions):
+    """Whether the sum of the fractions is 1."""
+    parts, whole = over_one_number(fractions)
+    return sum(parts) == whole
+
+
+def is_above(one, other):
+    """Whether one fraction is above another one."""
+    return one[0] * other[1] > other[0] * one[1]
 
 
 class Program:

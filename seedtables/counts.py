@@ -4,7 +4,7 @@ from math import comb
 
 from seedtables.common import MOST_KEYS, MOST_ROWS
 from seedtables.common import check_lot, check_many, check_marks, check_number, check_question, check_table
-from seedtables.common import fraction, is_between, is_fraction, is_tuple_of, over_one_number, power
+from seedtables.common import fraction_of, have_sum_1, is_between, is_part, is_tuple_of, over_one_number, power
 from seedtables.common import Program
 from seedtables.errors import InvalidLot, InvalidPowers, InvalidShares
 from seedtables.tables import pattern_at
@@ -40,7 +40,7 @@ def even_shares(marks, many):
     check_keys(marks, many)
     check_number_of_counts(marks, many)
     patterns = power(marks, many)
-    return tuple([fraction(arrangements(counts), patterns) for counts in counts_of(marks, many)])
+    return tuple([fraction_of(arrangements(counts), patterns) for counts in counts_of(marks, many)])
 
 
 def counted(marks, table, lot):
@@ -54,7 +54,7 @@ def counted(marks, table, lot):
     for row in table:
         counts = counts_in(marks, [row[key] for key in lot])
         found[counts] = found.get(counts, 0) + 1
-    return tuple([fraction(found.get(counts, 0), len(table)) for counts in counts_of(marks, len(lot))])
+    return tuple([fraction_of(found.get(counts, 0), len(table)) for counts in counts_of(marks, len(lot))])
 
 
 def falling_mean(marks, many, shares, powers):
@@ -89,32 +89,32 @@ def mean_of(marks, many, shares, question):
     check_number_of_counts(marks, many)
     parts, whole = over_one_number(shares)
     values, number = over_one_number(question)
-    return fraction(sum([part * value for part, value in zip(parts, values)]), whole * number)
+    return fraction_of(sum([part * value for part, value in zip(parts, values)]), whole * number)
 
 
 def greatest_mean(marks, many, size, question):
     """The greatest mean of the question over all shares even up to the size."""
     check_asked(marks, many, size, question)
-    return answer(marks, many, size, question)[0]
+    return counts_answer(marks, many, size, question)[0]
 
 
 def least_mean(marks, many, size, question):
     """The least mean of the question over all shares even up to the size."""
     check_asked(marks, many, size, question)
-    above, below = answer(marks, many, size, negated(question))[0]
+    above, below = counts_answer(marks, many, size, negated(question))[0]
     return (-above, below)
 
 
 def reaching_shares(marks, many, size, question):
     """Shares even up to the size with the greatest mean of the question."""
     check_asked(marks, many, size, question)
-    return answer(marks, many, size, question)[1]
+    return counts_answer(marks, many, size, question)[1]
 
 
 def bounding_polynomial(marks, many, size, question):
     """A polynomial at each counts at least the question, whose even mean is the greatest mean."""
     check_asked(marks, many, size, question)
-    return answer(marks, many, size, question)[2]
+    return counts_answer(marks, many, size, question)[2]
 
 
 def table_of(marks, many, shares):
@@ -123,7 +123,7 @@ def table_of(marks, many, shares):
     check_shares(marks, many, shares)
     check_number_of_counts(marks, many)
     counts = counts_of(marks, many)
-    of_each = [fraction(above, below * arrangements(one)) for one, (above, below) in zip(counts, shares)]
+    of_each = [fraction_of(above, below * arrangements(one)) for one, (above, below) in zip(counts, shares)]
     # With so many rows, and with no fewer, each arrangement comes a whole number of times.
     times, rows = over_one_number(of_each)
     check_many(rows, MOST_ROWS)
@@ -155,10 +155,9 @@ def check_shares(marks, many, shares):
     if not is_tuple_of(number_of_counts(marks, many), shares):
         raise InvalidShares(None)
     for index, share in enumerate(shares):
-        if not is_fraction(share) or share[0] < 0:
+        if not is_part(share):
             raise InvalidShares(index)
-    parts, whole = over_one_number(shares)
-    if sum(parts) != whole:
+    if not have_sum_1(shares):
         raise InvalidShares(None)
 
 
@@ -213,12 +212,12 @@ def lots_product(counts, powers):
 def even_mean_of(marks, many, powers):
     """The even mean, for arguments that are right."""
     taken = sum(powers)
-    return fraction(arrangements((*powers, many - taken)), power(marks, taken))
+    return fraction_of(arrangements((*powers, many - taken)), power(marks, taken))
 
 
 def falling_mean_of(counts, parts, whole, powers):
     """The falling mean for shares of all counts, told by parts of a whole."""
-    return fraction(sum([part * lots_product(one, powers) for one, part in zip(counts, parts)]), whole)
+    return fraction_of(sum([part * lots_product(one, powers) for one, part in zip(counts, parts)]), whole)
 
 
 def negated(question):
@@ -226,7 +225,7 @@ def negated(question):
     return tuple([(-above, below) for above, below in question])
 
 
-def answer(marks, many, size, question):
+def counts_answer(marks, many, size, question):
     """The greatest mean, shares that reach it, a polynomial that bounds it, for arguments that are right."""
     counts = counts_of(marks, many)
     even = [arrangements(one) for one in counts]
@@ -243,12 +242,12 @@ def solved(points, size, even, question):
     program = program_of(points, size, even, values)
     program.climb()
     whole = program.divisor * sum(even)
-    mean = fraction(program.gain(), whole * number)
-    shares = tuple([fraction(one, whole) for one in program.numbers()])
+    mean = fraction_of(program.gain(), whole * number)
+    shares = tuple([fraction_of(one, whole) for one in program.numbers()])
     # By what the gain loses with a share the polynomial is above the question at its point.
     heights = [value * program.divisor + loss for value, loss in zip(values, program.losses())]
     factors = factors_of(points, size, heights)
-    return (mean, shares, tuple([fraction(one, program.divisor * number) for one in factors]))
+    return (mean, shares, tuple([fraction_of(one, program.divisor * number) for one in factors]))
 
 
 def program_of(points, size, even, values):

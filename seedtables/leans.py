@@ -2,7 +2,7 @@
 
 from math import comb
 
-from seedtables.common import check_lot, check_table, fraction, power
+from seedtables.common import check_lot, check_table, fraction_of, power
 from seedtables.tables import coming_counts
 
 
@@ -21,7 +21,7 @@ def unevenness(marks, table, lot):
     squares = sum([count * count for count in coming_counts(table, lot).values()])
     many = power(marks, len(lot))
     # The counts have the sum N, so the sum told is that of their squares less N N / v^t.
-    return fraction(squares * many - len(table) * len(table), many)
+    return fraction_of(squares * many - len(table) * len(table), many)
 
 
 def likenesses(marks, table):
@@ -62,7 +62,7 @@ def leans_together(marks, pairs, many):
     """The sum of the leans of all lots of so many keys, told by the likenesses alone."""
     keys = len(pairs) - 1
     weighed = [count * character_sum(marks, keys, many, unlike) for unlike, count in enumerate(pairs)]
-    return fraction(sum(weighed), sum(pairs))
+    return fraction_of(sum(weighed), sum(pairs))
 
 
 def character_sum(marks, keys, many, unlike):

@@ -32,7 +32,7 @@ def free_strength(prime, vectors):
     """The strength of the straight table, told by ties."""
     check_vectors(prime, vectors)
     size = 0
-    while size < len(vectors) and not has_tied_lot(prime, lengthened(vectors), size + 1):
+    while size < len(vectors) and first_tied_lot(prime, vectors, size + 1) is None:
         size += 1
     return size
 
@@ -42,8 +42,7 @@ def tie_of(prime, vectors, lot):
     check_vectors(prime, vectors)
     if not is_lot(len(vectors), lot) or len(lot) == 0:
         raise InvalidLot(lot)
-    longer = lengthened(vectors)
-    return found_tie(prime, [longer[key] for key in lot])
+    return tie_on(prime, vectors, lot)
 
 
 def sums_table(marks, table, other):
@@ -104,20 +103,22 @@ def weighed_sum(pattern, weights):
     return sum([mark * weight for mark, weight in zip(pattern, weights)])
 
 
-def has_tied_lot(prime, vectors, size):
-    """Whether some lot of so many of these vectors has a tie."""
-    for lot in combinations(vectors, size):
-        if found_tie(prime, lot) is not None:
-            return True
-    return False
+def first_tied_lot(prime, vectors, size):
+    """A pair of the first lot of so many of these vectors that has a tie, and of one, None if there is none."""
+    for lot in combinations(range(len(vectors)), size):
+        tie = tie_on(prime, vectors, lot)
+        if tie is not None:
+            return (lot, tie)
+    return None
 
 
-def found_tie(prime, vectors):
-    """Numbers from 1 on with which the sum of the vectors is nought, None if there are none."""
+def tie_on(prime, vectors, lot):
+    """A tie of the lot, None if there is none, for arguments that are right."""
+    longer = lengthened([vectors[key] for key in lot])
     # The sums of each half are far fewer than those of all.
-    half = len(vectors) // 2
-    ahead = reached_sums(prime, len(vectors[0]), vectors[:half])
-    rest = reached_sums(prime, len(vectors[0]), vectors[half:])
+    half = len(lot) // 2
+    ahead = reached_sums(prime, len(longer[0]), longer[:half])
+    rest = reached_sums(prime, len(longer[0]), longer[half:])
     for total in rest:
         opposite = tuple([-part % prime for part in total])
         if opposite in ahead:

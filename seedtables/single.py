@@ -20,30 +20,30 @@ def at_least(many, least):
 
 def greatest_single(marks, many, size, question):
     """The greatest mean of the question over all shares even up to the size."""
-    check_asked(marks, many, size, question)
-    return answer(marks, many, size, question)[0]
+    check_asked_single(marks, many, size, question)
+    return single_answer(marks, many, size, question)[0]
 
 
 def least_single(marks, many, size, question):
     """The least mean of the question over all shares even up to the size."""
-    check_asked(marks, many, size, question)
-    above, below = answer(marks, many, size, negated(question))[0]
+    check_asked_single(marks, many, size, question)
+    above, below = single_answer(marks, many, size, negated(question))[0]
     return (-above, below)
 
 
 def reaching_single(marks, many, size, question):
     """Shares even up to the size with the greatest mean of the question."""
-    check_asked(marks, many, size, question)
-    return answer(marks, many, size, question)[1]
+    check_asked_single(marks, many, size, question)
+    return single_answer(marks, many, size, question)[1]
 
 
 def bounding_single(marks, many, size, question):
     """A polynomial at each number of keys at least the question, whose even mean is the greatest mean."""
-    check_asked(marks, many, size, question)
-    return answer(marks, many, size, question)[2]
+    check_asked_single(marks, many, size, question)
+    return single_answer(marks, many, size, question)[2]
 
 
-def check_asked(marks, many, size, question):
+def check_asked_single(marks, many, size, question):
     """Raises what is told of the arguments of a question."""
     if not is_between(marks, LEAST_MARKS, MOST_MARKS_ALONE):
         raise InvalidMarks(marks)
@@ -52,7 +52,7 @@ def check_asked(marks, many, size, question):
     check_question(question, many + 1)
 
 
-def answer(marks, many, size, question):
+def single_answer(marks, many, size, question):
     """The greatest mean, shares that reach it, a polynomial that bounds it, for arguments that are right."""
     even = [comb(many, keys) * power(marks - 1, many - keys) for keys in range(many + 1)]
     return solved([(keys,) for keys in range(many + 1)], size, even, question)

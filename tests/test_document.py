@@ -3,22 +3,28 @@
 import unittest
 
 from seedtables.changes import exchanged, led, product, rows_beside, with_keys
+from seedtables.collisions import collision, least_worst, reaches_least, worst_collision, worst_pair
 from seedtables.counts import (
     all_counts, all_powers, are_even_shares, bounding_polynomial, counted, even_mean, even_shares, falling_mean,
     greatest_mean, least_mean, mean_of, reaching_shares, table_of,
 )
 from seedtables.errors import TooMany
+from seedtables.fewest import fewest_rows, least_shares, least_sum, price_bound, rao_number, row_prices
 from seedtables.leans import lean, likenesses, transform, unevenness
 from seedtables.made import behind, free_strength, polynomial_table, straight_table, sums_table, tie_of
+from seedtables.seals import best_forgery, forged_share, forging_chance, worst_forging
 from seedtables.single import at_least, bounding_single, greatest_single, least_single, reaching_single
+from seedtables.sources import least_size, like_chance, off, off_bound, worst_lot, worst_off
 from seedtables.tables import is_even_on, is_table, pattern_counts, strength, uneven_lot
 
 bit, lines = ((0,), (1,)), ((0, 0), (1, 1), (2, 2))
 tripled, odd = ((0, 0, 0), (0, 1, 1), (1, 0, 1), (1, 1, 0)), ((0, 0, 1), (0, 1, 0), (1, 0, 0), (1, 1, 1))
-nil, one, half, quarter = (0, 1), (1, 1), (1, 2), (1, 4)
+nil, one, half, quarter, third = (0, 1), (1, 1), (1, 2), (1, 4), (1, 3)
 alone = (nil, nil, nil, one)
 pairs = ((0, 0), (0, 1), (1, 1), (1, 0))
 square = ((0, 0), (0, 1), (1, 0), (1, 1))
+thirds = ((0, 0, 1), (0, 1, 0), (1, 0, 0))
+plane = ((0, 0, 0), (0, 1, 1), (1, 0, 1), (1, 1, 0))
 
 
 class Tables(unittest.TestCase):
@@ -161,6 +167,74 @@ class Made(unittest.TestCase):
 
     def test_behind(self):
         self.assertEqual(behind(2, ((0, 0), (0, 1)), 2, ((0, 1), (0, 0))), ((0, 0), (0, 0), (0, 1), (0, 0)))
+
+
+class Fewest(unittest.TestCase):
+    def test_rao_number(self):
+        self.assertEqual(rao_number(2, 3, 2), 4)
+        self.assertEqual(rao_number(2, 4, 3), 8)
+        self.assertEqual(rao_number(3, 4, 2), 9)
+        self.assertEqual(rao_number(5, 12, 0), 1)
+        self.assertEqual(rao_number(2, 5, 2), 6)
+
+    def test_least_sum(self):
+        self.assertEqual(least_sum(2, 2, 2), (4, 1))
+        self.assertEqual(least_shares(2, 2, 2), ((1, 1), (2, 1), (1, 1)))
+        self.assertEqual(least_sum(2, 3, 2), (4, 1))
+        self.assertEqual(least_shares(2, 3, 2), ((1, 1), (0, 1), (3, 1), (0, 1)))
+        self.assertEqual(fewest_rows(2, 5, 2), 8)
+        self.assertEqual(fewest_rows(3, 2, 1), 3)
+
+    def test_prices(self):
+        self.assertEqual(price_bound(2, 3, 2, ((1, 2), (1, 2), (0, 1))), (4, 1))
+        self.assertEqual(price_bound(2, 3, 2, row_prices(2, 3, 2)), (4, 1))
+
+
+class Collisions(unittest.TestCase):
+    def test_collisions(self):
+        self.assertEqual(collision(2, pairs, 0, 1), (1, 2))
+        self.assertEqual(collision(2, pairs, 1, 1), (1, 1))
+        self.assertEqual(worst_collision(2, thirds), (1, 3))
+        self.assertEqual(worst_pair(2, thirds), (0, 1))
+        self.assertEqual(worst_collision(2, ((0,), (1,))), (0, 1))
+
+    def test_least_worst(self):
+        self.assertEqual(least_worst(2, 2), (0, 1))
+        self.assertEqual(least_worst(2, 3), (1, 3))
+        self.assertEqual(least_worst(2, 4), (1, 3))
+        self.assertEqual(least_worst(5, 60), (11, 59))
+        self.assertIs(reaches_least(2, thirds), True)
+        self.assertIs(reaches_least(2, ((0, 1),)), True)
+        self.assertIs(reaches_least(2, pairs), False)
+
+
+class Sources(unittest.TestCase):
+    def test_of_a_source(self):
+        self.assertEqual(off(2, plane, (half, half, nil)), (1, 4))
+        self.assertEqual(like_chance(2, plane, (half, half, nil)), (3, 4))
+        self.assertEqual(off_bound(2, plane, (half, half, nil)), (1, 8))
+        self.assertEqual(off(2, plane, (third, third, third)), (1, 4))
+
+    def test_of_all_sources(self):
+        self.assertEqual(worst_off(2, plane, 1), (1, 2))
+        self.assertEqual(worst_off(2, plane, 2), (1, 4))
+        self.assertEqual(worst_off(2, plane, 3), (1, 4))
+        self.assertEqual(len(worst_lot(2, plane, 2)), 2)
+        self.assertEqual(least_size(2, plane, (1, 4)), 2)
+        self.assertIsNone(least_size(2, plane, (1, 5)))
+
+
+class Seals(unittest.TestCase):
+    def test_forging(self):
+        self.assertEqual(forging_chance(2, plane, ()), (1, 2))
+        self.assertEqual(forging_chance(2, plane, (0,)), (1, 2))
+        expected = (((0, 0), 2, 0), ((0, 1), 2, 1), ((1, 0), 2, 1), ((1, 1), 2, 0))
+        self.assertEqual(best_forgery(2, plane, (0, 1)), expected)
+        self.assertEqual(worst_forging(2, plane, 0), (1, 2))
+        self.assertEqual(worst_forging(2, plane, 1), (1, 2))
+        self.assertEqual(worst_forging(2, plane, 2), (1, 1))
+        self.assertEqual(forged_share(2, plane, (0,), (((0,), 1, 0), ((1,), 1, 0))), (1, 2))
+        self.assertEqual(forging_chance(3, plane, ()), (1, 2))
 
 
 if __name__ == "__main__":

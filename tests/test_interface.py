@@ -9,6 +9,8 @@ from tests.samples import BIT, GREAT, MIXED, ODD, STRONG, TRIPLED, mixed_table, 
 
 SHARES = ((1, 4), (0, 1), (3, 4), (0, 1))
 QUESTION = ((1, 2), (-1, 3), (0, 1), (2, 1))
+SOURCE = ((1, 6), (1, 2), (1, 3))
+FORGERY = (((0,), 1, 0), ((1,), 2, 1))
 
 # For each function its file, its parameters, and arguments that are right.
 INTERFACE = (
@@ -50,6 +52,27 @@ INTERFACE = (
     ("made", "tie_of", ("prime", "vectors", "lot"), (3, ((1,), (1,), (2,)), (0, 1))),
     ("made", "sums_table", ("marks", "table", "other"), (3, mixed_table(3, 2, 9, 1), mixed_table(3, 4, 7, 1))),
     ("made", "behind", ("marks", "table", "fewer", "other"), (2, TRIPLED, 5, mixed_table(5, 2, 7, 1))),
+    ("fewest", "rao_number", ("marks", "keys", "size"), (5, 12, 7)),
+    ("fewest", "least_sum", ("marks", "keys", "size"), (5, 12, 7)),
+    ("fewest", "least_shares", ("marks", "keys", "size"), (5, 12, 7)),
+    ("fewest", "row_prices", ("marks", "keys", "size"), (5, 12, 7)),
+    ("fewest", "price_bound", ("marks", "keys", "size", "prices"), (2, 3, 2, ((1, 2), (1, 2), (0, 1)))),
+    ("fewest", "fewest_rows", ("marks", "keys", "size"), (5, 12, 7)),
+    ("collisions", "collision", ("marks", "table", "one", "two"), (3, mixed_table(3, 8, 128, 1), 7, 2)),
+    ("collisions", "worst_collision", ("marks", "table"), (3, mixed_table(3, 8, 128, 1))),
+    ("collisions", "worst_pair", ("marks", "table"), (3, mixed_table(3, 8, 128, 1))),
+    ("collisions", "least_worst", ("marks", "keys"), (3, 60)),
+    ("collisions", "reaches_least", ("marks", "table"), (3, mixed_table(3, 8, 128, 1))),
+    ("sources", "off", ("marks", "table", "source"), (2, TRIPLED, SOURCE)),
+    ("sources", "like_chance", ("marks", "table", "source"), (2, TRIPLED, SOURCE)),
+    ("sources", "off_bound", ("marks", "table", "source"), (2, TRIPLED, SOURCE)),
+    ("sources", "worst_off", ("marks", "table", "size"), (4, mixed_table(4, 8, 128, 1), 4)),
+    ("sources", "worst_lot", ("marks", "table", "size"), (4, mixed_table(4, 8, 128, 1), 4)),
+    ("sources", "least_size", ("marks", "table", "fraction"), (4, mixed_table(4, 8, 128, 1), (1, 3))),
+    ("seals", "forging_chance", ("marks", "table", "lot"), (2, mixed_table(2, 8, 128, 1), (0, 3, 5))),
+    ("seals", "best_forgery", ("marks", "table", "lot"), (2, mixed_table(2, 8, 128, 1), (0, 3, 5))),
+    ("seals", "forged_share", ("marks", "table", "lot", "forgery"), (2, TRIPLED, (0,), FORGERY)),
+    ("seals", "worst_forging", ("marks", "table", "size"), (2, mixed_table(2, 8, 128, 1), 4)),
 )
 
 # The functions of a table and no more than a lot or a size beside it.

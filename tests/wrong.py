@@ -4,8 +4,9 @@ import unittest
 from itertools import product
 
 from seedtables.errors import (
-    InvalidKey, InvalidKeys, InvalidLot, InvalidMap, InvalidMarks, InvalidNumber, InvalidOrder, InvalidPowers,
-    InvalidQuestion, InvalidShares, InvalidTable, InvalidVectors, TooMany,
+    InvalidForgery, InvalidFraction, InvalidKey, InvalidKeys, InvalidLot, InvalidMap, InvalidMarks, InvalidNumber,
+    InvalidOrder, InvalidPowers, InvalidPrices, InvalidQuestion, InvalidShares, InvalidSource, InvalidTable,
+    InvalidVectors, TooMany,
 )
 from tests.samples import mixed_table
 
@@ -90,8 +91,8 @@ def is_number(value, least, most):
 
 
 def no_numbers(least, most):
-    values = [value for value in any_values() if not is_number(value, least, most)]
-    return values + [least - 1, most + 1, -most, most * 1000, (least,), [most], str(least)]
+    values = any_values() + [least - 1, most + 1, -most, most * 1000, (least,), [most], str(least)]
+    return [value for value in values if not is_number(value, least, most)]
 
 
 def wrong_marks(least=2, most=5):
@@ -206,7 +207,8 @@ def some_shares(length):
     return ((1, 3),) + ((0, 1),) * (length - 2) + ((2, 3),)
 
 
-def wrong_shares(length):
+def no_shares(length):
+    """Pairs of what is no tuple of so many fractions from 0 on with the sum 1, and the index that is told."""
     right = some_shares(length)
     told = no_rows_of_fractions(length, right)
     nil = (0, 1)
@@ -222,7 +224,73 @@ def wrong_shares(length):
     told += [(((1, 2), (1, 3)) + (nil,) * (length - 2), None), (((1, 2), (2, 3)) + (nil,) * (length - 2), None)]
     # The sum is told behind each fraction alone.
     told.append((((1, 1),) * (length - 1) + ((2, 2),), length - 1))
-    return indexed(InvalidShares, told)
+    return told
+
+
+def wrong_shares(length):
+    return indexed(InvalidShares, no_shares(length))
+
+
+def wrong_sources(keys):
+    return indexed(InvalidSource, no_shares(keys))
+
+
+def wrong_given_fractions():
+    return given(InvalidFraction, wrong_fractions())
+
+
+def wrong_given_parts():
+    """Of what is no fraction from 0 on."""
+    return given(InvalidFraction, wrong_fractions() + [(-1, 1), (-1, 10 ** 399), (-10 ** 30, 7)])
+
+
+def wrong_prices(keys, size):
+    """Of what is no row prices of two keys or more; with all of them 0 each f(i) is 1."""
+    nil = ((0, 1),) * keys
+    told = no_rows_of_fractions(keys, nil)
+    for at in range(keys):
+        for one in ((1, 1), (1, 10 ** 399), (10 ** 30, 7)):
+            if at >= size:
+                told += [(nil[:at] + (one,) + nil[at + 1:], at), (nil[:at] + (one,) * (keys - at), at)]
+                told += [(((-9, 1),) * at + (one,) + nil[at + 1:], at), (nil[:at] + (one,) + ((2, 2),) * (keys - 1 - at), at)]
+        # So far below 0 a price makes f(0) fall below it; the first one, where it may be so far above 0, f(KEYS).
+        told += [(nil[:at] + (one,) + nil[at + 1:], None) for one in ((-10, 1), (-10 ** 30, 7))]
+    told += [(((-10, 1),) * keys, None), (((10 if size else -10, 1),) + nil[1:], None)]
+    return indexed(InvalidPrices, told)
+
+
+def wrong_forgeries(marks, keys, lot, patterns):
+    """Of what is no forgery for this lot of these keys, on which just these patterns come, ascending."""
+    key = [one for one in range(keys) if one not in lot][0]
+    right = tuple((pattern, key, 0) for pattern in patterns)
+    many = len(patterns)
+    told = [(value, None) for value in any_values() if type(value) is not tuple or len(value) != many]
+    told += [(list(right), None), (right + right[:1], None), (right[1:], None), (right * 2, None), ({0: right}, None)]
+    told += [(None, None), ((), None), ((right,) * (many + 1), None)]
+    for at, pattern in enumerate(patterns):
+        for wrong in no_triples(marks, keys, lot, pattern, key):
+            told.append((right[:at] + (wrong,) + right[at + 1:], at))
+            told.append((right[:at] + (wrong,) * (many - at), at))
+    if many > 1:
+        told += [(right[::-1], 0), (right[1:] + right[:1], 0), (right[:1] * many, 1), (right[-1:] * many, 0)]
+    return indexed(InvalidForgery, told)
+
+
+def no_triples(marks, keys, lot, pattern, key):
+    """What is no triple of this pattern, a key not in the lot, and a mark; right is one with this key and 0."""
+    other = tuple((mark + 1) % marks for mark in pattern)
+    values = [value for value in any_values()]
+    values += [[pattern, key, 0], (pattern, key), (pattern, key, 0, 0), (key, pattern, 0), ((pattern,), key, 0)]
+    values += [(list(pattern), key, 0), (pattern + (0,), key, 0), (None, key, 0), ("", key, 0), (0, key, 0)]
+    if pattern:
+        values += [(other, key, 0), (pattern[1:], key, 0), ((), key, 0), (tuple(map(str, pattern)), key, 0)]
+    if 0 in pattern or 1 in pattern:
+        values.append((tuple(bool(mark) if mark < 2 else mark for mark in pattern), key, 0))
+    wrong_keys = [keys, -1, True, False, None, "0", (key,), [key], {}, 10 ** 30, -10 ** 30, object(), *lot]
+    values += [(pattern, wrong, 0) for wrong in wrong_keys]
+    wrong_marks_there = [marks, -1, True, False, None, "0", (0,), [0], {}, 10 ** 30, -10 ** 30, object()]
+    values += [(pattern, key, wrong) for wrong in wrong_marks_there]
+    return values
 
 
 def wrong_powers(marks, many):
