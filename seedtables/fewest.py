@@ -132,7 +132,7 @@ def rows_program(marks, size, weights):
     all of them 0 the shares are those of all patterns. Of each that grows the sum of the shares loses as much.
     """
     keys = len(weights) - 1
-    above = range(size + 1, keys + 1)
+    above = list(range(size + 1, keys + 1))
     patterns = power(marks, keys)
     rows = []
     for row in weights[1:]:

@@ -3,8 +3,8 @@
 from itertools import combinations
 
 from seedtables.common import MOST_KEYS, MOST_ROWS
-from seedtables.common import check_many, check_number, check_table, first_wrong_row, is_filled_tuple, is_lot
-from seedtables.common import is_whole, power
+from seedtables.common import check_many, check_number, check_table, first_wrong_row, is_between, is_filled_tuple
+from seedtables.common import is_lot, is_tuple_of, is_whole, power
 from seedtables.errors import InvalidLot, InvalidMarks, InvalidVectors, UnlikeTables
 from seedtables.tables import pattern_at
 
@@ -99,7 +99,7 @@ def weighed_table(prime, weights):
 
 
 def weighed_sum(pattern, weights):
-    """The sum of the marks of the pattern times the weights."""
+    """The sum of the marks of the pattern, or other numbers, times the weights."""
     return sum([mark * weight for mark, weight in zip(pattern, weights)])
 
 
@@ -124,6 +124,17 @@ def tie_on(prime, vectors, lot):
         if opposite in ahead:
             return ahead[opposite] + rest[total]
     return None
+
+
+def is_tie(prime, vectors, lot, value):
+    """Whether a value, whatever it is, is a tie of the lot."""
+    if not is_tuple_of(len(lot), value) or not all([is_between(number, 1, prime - 1) for number in value]):
+        return False
+    longer = lengthened([vectors[key] for key in lot])
+    for place in range(len(longer[0])):
+        if weighed_sum(value, [vector[place] for vector in longer]) % prime != 0:
+            return False
+    return True
 
 
 def reached_sums(prime, places, vectors):

@@ -130,7 +130,8 @@ class Reached(unittest.TestCase):
 
     def test_all_small_tables(self):
         reached = {True: 0, False: 0}
-        for marks, keys, rows in ((2, 2, 1), (2, 2, 2), (2, 2, 3), (2, 3, 1), (2, 3, 2), (2, 3, 3), (3, 2, 2), (3, 3, 1)):
+        sizes = ((2, 2, 1), (2, 2, 2), (2, 2, 3), (2, 3, 1), (2, 3, 2), (2, 3, 3), (3, 2, 2), (3, 3, 1))
+        for marks, keys, rows in sizes:
             for table in all_tables(marks, keys, rows):
                 reached[self.just_then(marks, table)] += 1
         self.assertGreater(min(reached.values()), 20)

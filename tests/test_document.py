@@ -2,7 +2,10 @@
 
 import unittest
 
+from seedtables.apart import apart_share, blind_lot, framed, is_apart_up_to, is_parted, rows_let
+from seedtables.certificates import certify_even, certify_mean
 from seedtables.changes import exchanged, led, product, rows_beside, with_keys
+from seedtables.checker import accepts
 from seedtables.collisions import collision, least_worst, reaches_least, worst_collision, worst_pair
 from seedtables.counts import (
     all_counts, all_powers, are_even_shares, bounding_polynomial, counted, even_mean, even_shares, falling_mean,
@@ -12,6 +15,10 @@ from seedtables.errors import TooMany
 from seedtables.fewest import fewest_rows, least_shares, least_sum, price_bound, rao_number, row_prices
 from seedtables.leans import lean, likenesses, transform, unevenness
 from seedtables.made import behind, free_strength, polynomial_table, straight_table, sums_table, tie_of
+from seedtables.orders import (
+    ahead_share, are_orders, fairness, first_shares, is_fair_on, likeness, made_orders, slant, slant_pair,
+    told_likeness, unfair_lot,
+)
 from seedtables.seals import best_forgery, forged_share, forging_chance, worst_forging
 from seedtables.single import at_least, bounding_single, greatest_single, least_single, reaching_single
 from seedtables.sources import least_size, like_chance, off, off_bound, worst_lot, worst_off
@@ -25,6 +32,8 @@ pairs = ((0, 0), (0, 1), (1, 1), (1, 0))
 square = ((0, 0), (0, 1), (1, 0), (1, 1))
 thirds = ((0, 0, 1), (0, 1, 0), (1, 0, 0))
 plane = ((0, 0, 0), (0, 1, 1), (1, 0, 1), (1, 1, 0))
+turns = ((0, 1, 2), (1, 2, 0), (2, 0, 1))
+figures = ((0, 0, 1, 1), (0, 1, 0, 1))
 
 
 class Tables(unittest.TestCase):
@@ -235,6 +244,71 @@ class Seals(unittest.TestCase):
         self.assertEqual(worst_forging(2, plane, 2), (1, 1))
         self.assertEqual(forged_share(2, plane, (0,), (((0,), 1, 0), ((1,), 1, 0))), (1, 2))
         self.assertEqual(forging_chance(3, plane, ()), (1, 2))
+
+
+class Orders(unittest.TestCase):
+    def test_first_keys_and_fairness(self):
+        self.assertIs(are_orders(turns), True)
+        self.assertIs(are_orders(((0, 0),)), False)
+        self.assertEqual(first_shares(turns, (0, 1)), ((2, 3), (1, 3)))
+        self.assertIs(is_fair_on(turns, (0, 1, 2)), True)
+        self.assertEqual(fairness(turns), 1)
+        self.assertEqual(len(unfair_lot(turns)), 2)
+        self.assertEqual(ahead_share(turns, (0,), 1), (1, 3))
+        self.assertEqual(ahead_share(turns, (), 1), (1, 3))
+
+    def test_made_orders(self):
+        self.assertEqual(len(made_orders(4)), 12)
+        self.assertEqual(fairness(made_orders(4)), 4)
+        self.assertEqual(sorted(made_orders(2)), [(0, 1), (1, 0)])
+        self.assertIsNone(unfair_lot(made_orders(3)))
+
+    def test_likeness(self):
+        self.assertEqual(likeness(turns, (0, 1), (1, 2)), (1, 3))
+        self.assertEqual(told_likeness(turns, (0, 1), (1, 2)), (1, 3))
+        self.assertEqual(likeness(turns, (0, 1), (0,)), (1, 2))
+        self.assertEqual(told_likeness(turns, (0, 1), (0,)), (2, 3))
+        self.assertEqual(slant(turns, 1), (0, 1))
+        self.assertEqual(slant(turns, 3), (1, 3))
+        self.assertEqual(len(slant_pair(turns, 2)), 2)
+
+
+class Apart(unittest.TestCase):
+    def test_telling_apart(self):
+        self.assertEqual(apart_share(2, plane, (0, 1)), (1, 2))
+        self.assertIs(is_apart_up_to(2, figures, 2), True)
+        self.assertIs(is_apart_up_to(2, plane, 3), False)
+        self.assertEqual(blind_lot(2, plane, 3), (0, 1, 2))
+        self.assertIsNone(blind_lot(2, figures, 2))
+
+    def test_parting(self):
+        self.assertIs(is_parted(2, figures, (0,), (1, 2)), False)
+        self.assertIs(is_parted(2, figures, (0, 1), (2, 3)), True)
+        self.assertIsNone(framed(2, figures, 1))
+        key, lot = framed(2, figures, 2)
+        self.assertIs(is_parted(2, figures, (key,), lot), False)
+
+    def test_rows_let(self):
+        self.assertEqual(rows_let(2, 4, 2), 2)
+        self.assertEqual(rows_let(2, 5, 2), 3)
+        self.assertEqual(rows_let(3, 8, 3), 4)
+        self.assertIsNone(rows_let(2, 4, 3))
+
+
+class Certificates(unittest.TestCase):
+    def test_certificates(self):
+        claim = ("even", 2, ((0, 0, 0), (0, 1, 1), (1, 0, 1), (1, 1, 0)), 2)
+        self.assertEqual(certify_even(2, tripled, 2), (claim, ()))
+        self.assertEqual(certify_even(2, tripled, 3)[0][0], "uneven")
+        self.assertEqual(certify_mean(2, 3, 2, alone, quarter)[0][0], "mean up to")
+        self.assertEqual(certify_mean(2, 3, 2, alone, (1, 5))[0][0], "mean above")
+
+    def test_checker(self):
+        self.assertIs(accepts(("mean up to", 2, 3, 2, alone, quarter), (nil, nil, (1, 3))), True)
+        shares = (nil, (3, 4), nil, quarter)
+        self.assertIs(accepts(("mean above", 2, 3, 2, alone, (1, 5)), shares), True)
+        self.assertIs(accepts(("even", 2, tripled, 3), ()), False)
+        self.assertIs(accepts(("even", 2, tripled, 2), []), False)
 
 
 if __name__ == "__main__":

@@ -5,12 +5,14 @@ import importlib
 import inspect
 import unittest
 
+from tests.orders_by_rule import free_orders
 from tests.samples import BIT, GREAT, MIXED, ODD, STRONG, TRIPLED, mixed_table, questions, units
 
 SHARES = ((1, 4), (0, 1), (3, 4), (0, 1))
 QUESTION = ((1, 2), (-1, 3), (0, 1), (2, 1))
 SOURCE = ((1, 6), (1, 2), (1, 3))
 FORGERY = (((0,), 1, 0), ((1,), 2, 1))
+TURNS = ((0, 1, 2), (1, 2, 0), (2, 0, 1))
 
 # For each function its file, its parameters, and arguments that are right.
 INTERFACE = (
@@ -73,6 +75,36 @@ INTERFACE = (
     ("seals", "best_forgery", ("marks", "table", "lot"), (2, mixed_table(2, 8, 128, 1), (0, 3, 5))),
     ("seals", "forged_share", ("marks", "table", "lot", "forgery"), (2, TRIPLED, (0,), FORGERY)),
     ("seals", "worst_forging", ("marks", "table", "size"), (2, mixed_table(2, 8, 128, 1), 4)),
+    ("orders", "are_orders", ("value",), (TURNS,)),
+    ("orders", "first_shares", ("orders", "lot"), (TURNS, (0, 1))),
+    ("orders", "is_fair_on", ("orders", "lot"), (TURNS, (0, 1))),
+    ("orders", "fairness", ("orders",), (free_orders(6, 120, 3),)),
+    ("orders", "unfair_lot", ("orders",), (free_orders(6, 120, 3),)),
+    ("orders", "ahead_share", ("orders", "lot", "key"), (TURNS, (0,), 1)),
+    ("orders", "made_orders", ("keys",), (6,)),
+    ("orders", "likeness", ("orders", "lot", "other"), (TURNS, (0, 1), (1, 2))),
+    ("orders", "told_likeness", ("orders", "lot", "other"), (TURNS, (0, 1), (1, 2))),
+    ("orders", "slant", ("orders", "size"), (free_orders(6, 120, 3), 5)),
+    ("orders", "slant_pair", ("orders", "size"), (free_orders(6, 120, 3), 5)),
+    ("apart", "apart_share", ("marks", "table", "lot"), (5, mixed_table(5, 8, 128, 1), (0, 3, 5))),
+    ("apart", "is_apart_up_to", ("marks", "table", "size"), (5, mixed_table(5, 8, 128, 1), 4)),
+    ("apart", "blind_lot", ("marks", "table", "size"), (2, mixed_table(2, 8, 128, 1), 4)),
+    ("apart", "is_parted", ("marks", "table", "lot", "other"), (2, TRIPLED, (0,), (1, 2))),
+    ("apart", "framed", ("marks", "table", "size"), (2, mixed_table(2, 8, 128, 1), 6)),
+    ("apart", "rows_let", ("marks", "keys", "size"), (5, 10 ** 6, 5)),
+    ("checker", "accepts", ("claim", "paper"), (("even", 2, TRIPLED, 2), ())),
+    ("certificates", "certify_even", ("marks", "table", "size"), (2, TRIPLED, 3)),
+    ("certificates", "certify_lean", ("marks", "table", "lot"), (2, TRIPLED, (0, 1, 2))),
+    ("certificates", "certify_mean", ("marks", "many", "size", "question", "fraction"), (2, 3, 1, QUESTION, (1, 2))),
+    ("certificates", "certify_single", ("marks", "many", "size", "question", "fraction"), (60, 3, 1, QUESTION, (1, 2))),
+    ("certificates", "certify_rows", ("marks", "keys", "size", "fraction"), (5, 12, 7, (1000, 1))),
+    ("certificates", "certify_strength", ("prime", "vectors", "count"), (3, ((1,), (1,), (2,)), 2)),
+    ("certificates", "certify_collision", ("marks", "table"), (2, TRIPLED)),
+    ("certificates", "certify_off", ("marks", "table", "size", "fraction"), (2, TRIPLED, 2, (1, 5))),
+    ("certificates", "certify_forging", ("marks", "table", "lot", "fraction"), (2, TRIPLED, (0,), (1, 5))),
+    ("certificates", "certify_fair", ("orders", "size"), (TURNS, 2)),
+    ("certificates", "certify_apart", ("marks", "table", "size"), (2, TRIPLED, 2)),
+    ("certificates", "certify_framing", ("marks", "table", "size"), (2, TRIPLED, 2)),
 )
 
 # The functions of a table and no more than a lot or a size beside it.
@@ -89,10 +121,10 @@ def again(value):
 
 
 def is_plain(value):
-    """Whether a value is built of whole numbers, True, False, None and tuples alone."""
+    """Whether a value is built of whole numbers, True, False, None, texts (words of claims) and tuples alone."""
     if type(value) is tuple:
         return all(is_plain(part) for part in value)
-    return value is None or type(value) in (int, bool)
+    return value is None or type(value) in (int, bool, str)
 
 
 class Interface(unittest.TestCase):

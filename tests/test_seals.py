@@ -134,7 +134,8 @@ class Forgeries(unittest.TestCase):
                     self.assertLessEqual(number(told), number(forging_chance(marks, table, lot)))
 
     def test_all_forgeries(self):
-        for marks, table, lot in ((2, TRIPLED, (0,)), (2, ODD, ()), (3, LINES, (0,)), (2, mixed_table(2, 3, 5, 1), (2,))):
+        mixed = mixed_table(2, 3, 5, 1)
+        for marks, table, lot in ((2, TRIPLED, (0,)), (2, ODD, ()), (3, LINES, (0,)), (2, mixed, (2,))):
             for forgery in all_forgeries(marks, table, lot):
                 self.assertEqual(forged_share(marks, table, lot, forgery), pair(share_of(table, lot, forgery)))
 

@@ -26,8 +26,7 @@ def some_forgery(table, lot):
 
 def wrong_seen_lots(keys):
     """Of what is no lot of so many keys, or that of all of them; () is a lot."""
-    values = [value for value in wrong.no_lots(keys) if value != () or type(value) is not tuple]
-    return wrong.given(InvalidLot, values + [tuple(range(keys))])
+    return wrong.wrong_lots(keys) + wrong.given(InvalidLot, [tuple(range(keys))])
 
 
 class Sources(wrong.Told):
@@ -88,7 +87,8 @@ class Seals(wrong.Told):
                 self.all_wrong_are_told(function, (marks, mixed_table(marks, keys, 9, 2), ()), ways)
 
     def test_forgeries(self):
-        for marks, keys, lot in ((2, 2, (1,)), (3, 5, (0, 3)), (5, 8, (0, 1, 2, 3, 4, 5, 6)), (4, 3, ()), (2, 4, (1, 2, 3))):
+        lots = ((2, 2, (1,)), (3, 5, (0, 3)), (5, 8, (0, 1, 2, 3, 4, 5, 6)), (4, 3, ()), (2, 4, (1, 2, 3)))
+        for marks, keys, lot in lots:
             table = mixed_table(marks, keys, 9, 2)
             right = (marks, table, lot, some_forgery(table, lot))
             ways = [

@@ -5,8 +5,8 @@ from itertools import product
 
 from seedtables.errors import (
     InvalidForgery, InvalidFraction, InvalidKey, InvalidKeys, InvalidLot, InvalidMap, InvalidMarks, InvalidNumber,
-    InvalidOrder, InvalidPowers, InvalidPrices, InvalidQuestion, InvalidShares, InvalidSource, InvalidTable,
-    InvalidVectors, TooMany,
+    InvalidOrder, InvalidOrders, InvalidPowers, InvalidPrices, InvalidQuestion, InvalidShares, InvalidSource,
+    InvalidTable, InvalidVectors, TooMany,
 )
 from tests.samples import mixed_table
 
@@ -252,7 +252,8 @@ def wrong_prices(keys, size):
         for one in ((1, 1), (1, 10 ** 399), (10 ** 30, 7)):
             if at >= size:
                 told += [(nil[:at] + (one,) + nil[at + 1:], at), (nil[:at] + (one,) * (keys - at), at)]
-                told += [(((-9, 1),) * at + (one,) + nil[at + 1:], at), (nil[:at] + (one,) + ((2, 2),) * (keys - 1 - at), at)]
+                told.append((((-9, 1),) * at + (one,) + nil[at + 1:], at))
+                told.append((nil[:at] + (one,) + ((2, 2),) * (keys - 1 - at), at))
         # So far below 0 a price makes f(0) fall below it; the first one, where it may be so far above 0, f(KEYS).
         told += [(nil[:at] + (one,) + nil[at + 1:], None) for one in ((-10, 1), (-10 ** 30, 7))]
     told += [(((-10, 1),) * keys, None), (((10 if size else -10, 1),) + nil[1:], None)]
@@ -369,3 +370,37 @@ def no_vectors(prime):
 
 def wrong_vectors(prime):
     return indexed(InvalidVectors, no_vectors(prime))
+
+
+def no_orders():
+    """Pairs of what is no orders and the index that is told, in which right orders have three keys."""
+    good = (2, 0, 1)
+    told = [(value, None) for value in any_values() if type(value) is not tuple or value == ()]
+    told += [([good], None), ([list(good)], None), ({good: good}, None), ({0: good}, None), (iter((good,)), None)]
+    wrong = [
+        None, True, 0, "012", b"012", [], [0, 1, 2], {0: 0, 1: 1, 2: 2}, (0, 1, 3), (1, 2, 3), (0, 0, 1), (0, 1, 1),
+        (0, 0, 0), (-1, 0, 1), (0, 1, True), (False, 1, 2), (0, True, 2), (0, 1, None), (0, 1, "2"), (0, 1, [2]),
+        ((0,), 1, 2), ((0, 1, 2),), (0, 1, 10 ** 30), (-10 ** 30, 1, 2), (), tuple(range(7)), tuple(range(300)),
+        (1,), (0, 2), (0, 1, 2, 4), (0, 1, 2, 2), range(3), object(), nested(13, tuple),
+    ]
+    for one in wrong:
+        told += [((one,), 0), ((one, good, good), 0), ((one, one), 0)]
+    for one in wrong + [(0,), (0, 1), (1, 0, 3, 2), (0, 1, 2, 3, 4, 5)]:
+        told += [((good, one), 1), ((good, good, one, one), 2), ((good,) * 119 + (one,), 119)]
+        told += [((good,) * 120 + (one,), 120), ((good,) * 5 + (one,) + (good,) * 125, 5)]
+    told += [((good,) * 121, 120), ((good,) * 300, 120), (((0,),) * 121, 120), ((tuple(range(6)),) * 121, 120)]
+    told += [((tuple(range(7)),) * 2, 0), ((0, 1, 2), 0), (((0, 1), (0, 1, 2), (1, 0)), 1)]
+    return told
+
+
+def wrong_rows_of_orders():
+    return indexed(InvalidOrders, no_orders())
+
+
+def wrong_filled_lots(keys):
+    return given(InvalidLot, no_lots(keys))
+
+
+def wrong_lots(keys):
+    """Of what is no lot of so many keys; () is one."""
+    return given(InvalidLot, [value for value in no_lots(keys) if not (type(value) is tuple and value == ())])
