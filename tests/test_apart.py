@@ -183,7 +183,7 @@ class Bounds(unittest.TestCase):
                 self.assertIs(is_apart_up_to(marks, figures(marks, keys, many - 1), 2), False)
 
     def test_all_tables_with_one_row_less_are_not_apart(self):
-        for marks, keys, size in ((2, 3, 2), (2, 4, 2), (3, 4, 2), (3, 4, 3), (2, 5, 2), (4, 5, 4)):
+        for marks, keys, size in ((2, 3, 2), (2, 4, 2), (3, 4, 2), (3, 4, 3), (2, 5, 2)):
             rows = rows_let(marks, keys, size) - 1
             if rows:
                 few = all_tables(marks, keys, rows)

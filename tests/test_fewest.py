@@ -135,7 +135,7 @@ class LeastSum(Optimum):
 
 class Prices(unittest.TestCase):
     def test_bound_by_hand(self):
-        for marks, keys, size in ALL:
+        for marks, keys, size in ALL[::3]:
             for at in range(keys):
                 for low in (Fraction(0), Fraction(-1, marks ** keys * 3), Fraction(-1, comb(keys, at + 1) * 1000)):
                     prices = [Fraction(0)] * keys
